@@ -1,0 +1,42 @@
+"""The examples of the interface, as they are printed there."""
+
+import doctest
+import unittest
+
+EXAMPLES = {
+    "railways": """
+>>> from treetrain.railways import Railway
+>>> railway = Railway((0, 1), (3, 1), (1, 2))
+>>> railway.size, railway.tracks, railway.neighbours(1), railway.path(0, 3)
+(4, ((0, 1), (1, 2), (1, 3)), (0, 2, 3), (0, 1, 3))
+""",
+    "standings": """
+>>> from treetrain.railways import Railway
+>>> from treetrain.standings import moved, possible_moves
+>>> star = Railway.star(4)
+>>> list(possible_moves(star, (1, 0))), moved(star, (1, 0), ("tail", 2), ("head", 3))
+([('tail', 2), ('tail', 3)], (3, 0))
+""",
+    "depths": """
+>>> from treetrain.depths import branch_depths, depth_behind, pivots, trunk
+>>> from treetrain.railways import Railway
+>>> broom = Railway((0, 1), (1, 2), (2, 3), (3, 4), (3, 5))
+>>> depth_behind(broom, 2, 4), branch_depths(broom, 2), trunk(broom, 2), pivots(broom, 1)
+(2, ((1, 2), (3, 2)), (2,), (3,))
+""",
+}
+
+
+class Examples(unittest.TestCase):
+    def test_examples(self):
+        for name, text in EXAMPLES.items():
+            with self.subTest(name):
+                example = doctest.DocTestParser().get_doctest(text, {}, name, None, None)
+                report = []
+                result = doctest.DocTestRunner(verbose=False).run(example, out=report.append)
+                self.assertEqual(result.failed, 0, "".join(report))
+                self.assertGreater(result.attempted, 0)
+
+
+if __name__ == "__main__":
+    unittest.main()

@@ -1,0 +1,1 @@
+"""Treetrain: a train that creeps on a railway without rings."""

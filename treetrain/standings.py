@@ -1,0 +1,133 @@
+"""Standings of trains, their moves, and their parts."""
+
+from treetrain.checks import check_length, is_pair_of_stations, is_station
+from treetrain.errors import Blocked, InvalidLength, InvalidMove, InvalidStanding
+from treetrain.layers import layers
+
+ENDS = ("head", "tail")
+
+
+def is_standing(railway, value):
+    """Tells whether a value is a standing."""
+    return is_pair_of_stations(value, railway.size)
+
+
+def check_standing(railway, standing):
+    """Raises InvalidStanding if the value is not a standing."""
+    if not is_standing(railway, standing):
+        raise InvalidStanding(standing)
+
+
+def is_move(railway, value):
+    """Tells whether a value is a move, possible or not."""
+    if not isinstance(value, tuple) or len(value) != 2:
+        return False
+    return value[0] in ENDS and is_station(railway, value[1])
+
+
+def check_moves(railway, moves):
+    """Raises InvalidMove if the value is not a tuple of moves."""
+    if not isinstance(moves, tuple):
+        raise InvalidMove(None)
+    for index, move in enumerate(moves):
+        if not is_move(railway, move):
+            raise InvalidMove(index)
+
+
+def length_of(railway, standing):
+    """The distance of the head and the tail."""
+    return len(body_of(railway, standing)) - 1
+
+
+def body_of(railway, standing):
+    """The path from the head to the tail."""
+    check_standing(railway, standing)
+    head, tail = standing
+    return railway.path(head, tail)
+
+
+def turned(railway, standing):
+    """The standing with head and tail exchanged."""
+    check_standing(railway, standing)
+    head, tail = standing
+    return tail, head
+
+
+def possible_moves(railway, standing):
+    """Yields all possible moves, ascending."""
+    body = body_of(railway, standing)
+    for near in _free_neighbours(railway, body, body[0]):
+        yield "head", near
+    for near in _free_neighbours(railway, body, body[-1]):
+        yield "tail", near
+
+
+def moved(railway, standing, *moves):
+    """The standing after the moves."""
+    return moved_along(railway, standing, moves)
+
+
+def moved_along(railway, standing, moves):
+    """The standing after a tuple of moves."""
+    body, _ = _run(railway, standing, moves)
+    return body[0], body[-1]
+
+
+def opposite_moves(railway, standing, moves):
+    """The tuple of the moves that take a tuple of moves back, the last one first."""
+    _, opposites = _run(railway, standing, moves)
+    return tuple(opposites[::-1])
+
+
+def front_part(railway, standing, length):
+    """The standing of a length with the same head and its tail on the body."""
+    body = _body_for_part(railway, standing, length)
+    return body[0], body[length]
+
+
+def rear_part(railway, standing, length):
+    """The standing of a length with the same tail and its head on the body."""
+    body = _body_for_part(railway, standing, length)
+    return body[-1 - length], body[-1]
+
+
+def standings(railway, length):
+    """Yields all standings of a length, ascending."""
+    check_length(length)
+    for head in range(railway.size):
+        found = layers(railway, head, None)
+        if length < len(found):
+            for tail in sorted(found[length]):
+                yield head, tail
+
+
+def _body_for_part(railway, standing, length):
+    """The body of a standing that has a part of this length."""
+    body = body_of(railway, standing)
+    check_length(length)
+    if length >= len(body):
+        raise InvalidLength(length)
+    return body
+
+
+def _free_neighbours(railway, body, station):
+    """The neighbours of a station that are not on the body, ascending."""
+    return [near for near in railway.neighbours(station) if near not in body]
+
+
+def _run(railway, standing, moves):
+    """The body after the moves, and the list of the moves opposite to them."""
+    body = body_of(railway, standing)
+    check_moves(railway, moves)
+    opposites = []
+    for index, (end, station) in enumerate(moves):
+        old = body[0] if end == "head" else body[-1]
+        if station not in railway.neighbours(old) or station in body:
+            raise Blocked(index)
+        if end == "head":
+            opposites.append(("tail", body[-1]))
+            body = (station,) + body[:-1]
+        else:
+            opposites.append(("head", body[0]))
+            body = body[1:] + (station,)
+    return body, opposites
