@@ -24,6 +24,36 @@ EXAMPLES = {
 >>> depth_behind(broom, 2, 4), branch_depths(broom, 2), trunk(broom, 2), pivots(broom, 1)
 (2, ((1, 2), (3, 2)), (2,), (3,))
 """,
+    "climbing": """
+>>> from treetrain.climbing import climb, clamps, pocket
+>>> from treetrain.railways import Railway
+>>> path = Railway.line(5)
+>>> list(climb(path, (0, 3))), pocket(path, (0, 3)), clamps(path, (0, 3)), pocket(path, (0, 2))
+([(0, 3), (1, 3)], (1, 3), ((1, 2), (1, 3), (2, 3)), None)
+""",
+    "divides": """
+>>> from treetrain.divides import is_divide, mark
+>>> from treetrain.railways import Railway
+>>> broom = Railway((0, 1), (1, 2), (2, 3), (3, 4), (3, 5))
+>>> is_divide(broom, 2, (0, 1, 2, 3, 4)), is_divide(broom, 1, (0, 1, 2, 3, 4)), mark(broom, (0, 1, 2, 3, 4), 5)
+(True, False, 3)
+""",
+    "deciding": """
+>>> from treetrain.deciding import check_decision, decide, leads
+>>> from treetrain.railways import Railway
+>>> path = Railway.line(5)
+>>> decide(path, (0, 3), (1, 4))[0], leads(path, (0, 2), (2, 0)), decide(path, (0, 2), (2, 0))[0]
+('way', False, 'divide')
+>>> check_decision(path, (0, 3), (4, 1), ("clamp", 1, 3))
+'clamp'
+""",
+    "ways": """
+>>> from treetrain.railways import Railway
+>>> from treetrain.ways import fewest_moves, shortest_way
+>>> star = Railway.star(4)
+>>> fewest_moves(star, (1, 0), (0, 1)), shortest_way(star, (1, 0), (0, 1))
+(3, (('tail', 2), ('head', 3), ('tail', 1)))
+""",
 }
 
 

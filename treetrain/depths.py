@@ -22,11 +22,16 @@ def branch_depths(railway, station):
     return tuple([(near, 1 + depth_behind(railway, near, station)) for near in railway.neighbours(station)])
 
 
-def diameter(railway):
-    """The greatest distance of two stations."""
+def longest_path(railway):
+    """One of the paths between two stations of the greatest distance."""
     # Among the stations, one that is farthest from any given one is an end of a longest path.
     end = layers(railway, 0, None)[-1][0]
-    return len(layers(railway, end, None)) - 1
+    return railway.path(end, layers(railway, end, None)[-1][0])
+
+
+def diameter(railway):
+    """The greatest distance of two stations."""
+    return len(longest_path(railway)) - 1
 
 
 def deep_branches(railway, station, length):

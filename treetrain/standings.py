@@ -55,11 +55,8 @@ def turned(railway, standing):
 
 def possible_moves(railway, standing):
     """Yields all possible moves, ascending."""
-    body = body_of(railway, standing)
-    for near in _free_neighbours(railway, body, body[0]):
-        yield "head", near
-    for near in _free_neighbours(railway, body, body[-1]):
-        yield "tail", near
+    for move, _ in steps_from(railway, body_of(railway, standing)):
+        yield move
 
 
 def moved(railway, standing, *moves):
@@ -91,6 +88,13 @@ def rear_part(railway, standing, length):
     return body[-1 - length], body[-1]
 
 
+def steps_from(railway, body):
+    """The pairs of a possible move and the body after it, in ascending order of the moves."""
+    heads = [("head", near) for near in railway.neighbours(body[0]) if near not in body]
+    tails = [("tail", near) for near in railway.neighbours(body[-1]) if near not in body]
+    return [((end, near), _body_after(body, end, near)) for end, near in heads + tails]
+
+
 def standings(railway, length):
     """Yields all standings of a length, ascending."""
     check_length(length)
@@ -110,9 +114,11 @@ def _body_for_part(railway, standing, length):
     return body
 
 
-def _free_neighbours(railway, body, station):
-    """The neighbours of a station that are not on the body, ascending."""
-    return [near for near in railway.neighbours(station) if near not in body]
+def _body_after(body, end, station):
+    """The body after a possible move."""
+    if end == "head":
+        return (station,) + body[:-1]
+    return body[1:] + (station,)
 
 
 def _run(railway, standing, moves):
@@ -124,10 +130,6 @@ def _run(railway, standing, moves):
         old = body[0] if end == "head" else body[-1]
         if station not in railway.neighbours(old) or station in body:
             raise Blocked(index)
-        if end == "head":
-            opposites.append(("tail", body[-1]))
-            body = (station,) + body[:-1]
-        else:
-            opposites.append(("head", body[0]))
-            body = body[1:] + (station,)
+        opposites.append(("tail", body[-1]) if end == "head" else ("head", body[0]))
+        body = _body_after(body, end, station)
     return body, opposites
