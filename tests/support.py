@@ -12,9 +12,15 @@ NO_STANDINGS = (
     (0, 0), (1, 1), (True, 0), (0, True), (False, 1), (1, False), (-1, 0), (0, -1), (0, 5), (5, 0), (0, 10 ** 49),
     (None, 0), (0, None), ("0", 1), (0, "1"), ((0, 1),), ((0,), 1), ([0], 1), ([0, 1], [1, 0]), ({}, {}),
 )
-# Each is wrong on a railway of five stations.
+# Each of these and of NO_MOVES is wrong on a railway of five stations.
 NO_STATIONS = NO_INTEGERS + (-1, 5, 6, 100, 10 ** 49, -(10 ** 49))
 NO_LENGTHS = NO_INTEGERS + (0, -1, -(10 ** 49))
+NO_MOVES = (
+    None, True, 0, "", "head", "head 1", (), [], {}, ("head",), ("head", 1, 2), ["head", 1], {"head": 1}, (1, "head"),
+    ("heads", 1), ("Head", 1), ("", 1), (None, 1), (0, 1), (True, 1), (("head",), 1), (["head"], 1), ({}, 1),
+    ("head", True), ("tail", False), ("head", -1), ("tail", 5), ("head", 10 ** 49), ("head", None), ("tail", "1"),
+    ("head", (1,)), ("tail", [1]), (("head", 1),), (("head", 1), ("tail", 2)), Railway.line(2), (Railway.line(2), 1),
+)
 
 
 def all_trees(size):
@@ -158,7 +164,6 @@ class Plan:
         if move[0] == "head":
             return move[1], body[-2]
         return body[1], move[1]
-
 
     def lengths(self):
         return range(1, self.diameter() + 1)

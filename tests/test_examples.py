@@ -54,6 +54,45 @@ EXAMPLES = {
 >>> fewest_moves(star, (1, 0), (0, 1)), shortest_way(star, (1, 0), (0, 1))
 (3, (('tail', 2), ('head', 3), ('tail', 1)))
 """,
+    "classes": """
+>>> from treetrain.classes import class_of, class_size, count_classes, head_places, pockets
+>>> from treetrain.railways import Railway
+>>> railway = Railway((0, 1), (0, 2), (2, 3), (0, 4), (1, 5), (5, 6), (1, 7))
+>>> class_size(railway, (0, 6)), list(class_of(railway, (2, 7))), head_places(railway, (2, 7))
+(5, [(0, 6), (2, 5), (2, 7), (3, 1), (4, 5)], (0, 2, 3, 4))
+>>> pockets(railway, 3), count_classes(railway, 3), count_classes(Railway.line(5), 2)
+(((0, 1), (1, 0), (3, 4), (4, 3), (4, 7), (6, 7), (7, 4), (7, 6)), (8, 0), (0, 2))
+""",
+    "lengths": """
+>>> from treetrain.lengths import length_rows, passing_length, turning_length
+>>> from treetrain.railways import Railway
+>>> passing_length(Railway.line(5)), turning_length(Railway.line(5)), turning_length(Railway.star(4))
+(2, 0, 1)
+>>> list(length_rows(Railway.line(5)))
+[(1, 8, 0, 2), (2, 6, 0, 2), (3, 4, 2, 0), (4, 2, 2, 0)]
+""",
+    "changes": """
+>>> from treetrain.changes import halved, renamed
+>>> from treetrain.railways import Railway
+>>> halved(Railway.star(3)).tracks, renamed(Railway.line(3), (1, 0, 2)).tracks
+(((0, 3), (0, 4), (1, 3), (2, 4)), ((0, 1), (0, 2)))
+""",
+    "trains: a touring train with fuel": """
+>>> from treetrain.railways import Railway
+>>> from treetrain.trains import TouringFuelTrain
+>>> train = TouringFuelTrain(Railway.star(4), 1, 0, fuel=5)
+>>> train.run(("tail", 2), ("head", 3)), train.visited, train.fuel, train.steps
+((3, 0), (0, 1, 3), 3, (('tail', 2), ('head', 3)))
+>>> train.undo(), train.fuel, train.steps
+((0, 2), 2, (('tail', 2),))
+""",
+    "trains: coupling": """
+>>> from treetrain.railways import Railway
+>>> from treetrain.trains import Train
+>>> train = Train(Railway.line(5), 0, 2)
+>>> train.is_clamped(), train.couple(3), train.is_clamped(), train.uncouple()
+(False, (0, 3), True, (0, 2))
+""",
 }
 
 

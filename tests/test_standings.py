@@ -2,20 +2,12 @@
 
 import unittest
 
-from tests.support import NO_LENGTHS, NO_STANDINGS, Case, Plan, broom, small_trees
+from tests.support import NO_LENGTHS, NO_MOVES, NO_STANDINGS, Case, Plan, broom, small_trees
 from treetrain.errors import Blocked, InvalidLength, InvalidMove, InvalidStanding
 from treetrain.railways import Railway
 from treetrain.standings import (
     body_of, front_part, is_standing, length_of, moved, moved_along, opposite_moves, possible_moves, rear_part,
     standings, turned,
-)
-
-# Each is wrong on a railway of five stations.
-NO_MOVES = (
-    None, True, 0, "", "head", "head 1", (), [], {}, ("head",), ("head", 1, 2), ["head", 1], {"head": 1}, (1, "head"),
-    ("heads", 1), ("Head", 1), ("", 1), (None, 1), (0, 1), (True, 1), (("head",), 1), (["head"], 1), ({}, 1),
-    ("head", True), ("tail", False), ("head", -1), ("tail", 5), ("head", 10 ** 49), ("head", None), ("tail", "1"),
-    ("head", (1,)), ("tail", [1]), (("head", 1),), (("head", 1), ("tail", 2)), Railway.line(2), (Railway.line(2), 1),
 )
 
 

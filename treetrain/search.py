@@ -1,4 +1,4 @@
-"""The search for the fewest moves from one standing to another one."""
+"""The search by all possible moves: for the fewest moves to another standing, and for all standings of a class."""
 
 from treetrain.standings import body_of, steps_from
 
@@ -16,8 +16,14 @@ def least_way(railway, start, goal):
     return tuple(moves)
 
 
+def standings_of_class(railway, standing):
+    """The ascending list of all standings that a standing leads to."""
+    counts = _counts_to(railway, None, body_of(railway, standing))
+    return sorted([(body[0], body[-1]) for body in counts])
+
+
 def _counts_to(railway, start, goal):
-    """The fewest moves to the goal from all bodies that are not farther from it than the start is."""
+    """The fewest moves to the goal from all bodies that are not farther from it than the start, if there is a start."""
     counts = {goal: 0}
     layer = [goal]
     # Each move has its opposite, so the search may begin at the goal.

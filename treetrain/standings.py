@@ -66,14 +66,28 @@ def moved(railway, standing, *moves):
 
 def moved_along(railway, standing, moves):
     """The standing after a tuple of moves."""
-    body, _ = _run(railway, standing, moves)
+    body = bodies_along(railway, standing, moves)[-1]
     return body[0], body[-1]
 
 
 def opposite_moves(railway, standing, moves):
     """The tuple of the moves that take a tuple of moves back, the last one first."""
-    _, opposites = _run(railway, standing, moves)
+    bodies = bodies_along(railway, standing, moves)
+    opposites = [_opposite_move(body, end) for (end, _), body in zip(moves, bodies)]
     return tuple(opposites[::-1])
+
+
+def bodies_along(railway, standing, moves):
+    """The list of the bodies before, between and after the moves of a tuple."""
+    bodies = [body_of(railway, standing)]
+    check_moves(railway, moves)
+    for index, (end, station) in enumerate(moves):
+        body = bodies[-1]
+        old = body[0] if end == "head" else body[-1]
+        if station not in railway.neighbours(old) or station in body:
+            raise Blocked(index)
+        bodies.append(_body_after(body, end, station))
+    return bodies
 
 
 def front_part(railway, standing, length):
@@ -121,15 +135,6 @@ def _body_after(body, end, station):
     return body[1:] + (station,)
 
 
-def _run(railway, standing, moves):
-    """The body after the moves, and the list of the moves opposite to them."""
-    body = body_of(railway, standing)
-    check_moves(railway, moves)
-    opposites = []
-    for index, (end, station) in enumerate(moves):
-        old = body[0] if end == "head" else body[-1]
-        if station not in railway.neighbours(old) or station in body:
-            raise Blocked(index)
-        opposites.append(("tail", body[-1]) if end == "head" else ("head", body[0]))
-        body = _body_after(body, end, station)
-    return body, opposites
+def _opposite_move(body, end):
+    """The move opposite to one that is made by this end of the body."""
+    return ("tail", body[-1]) if end == "head" else ("head", body[0])
