@@ -93,6 +93,30 @@ EXAMPLES = {
 >>> train.is_clamped(), train.couple(3), train.is_clamped(), train.uncouple()
 (False, (0, 3), True, (0, 2))
 """,
+    "trials": """
+>>> from treetrain.railways import Railway
+>>> from treetrain.trains import Train
+>>> from treetrain.trials import tried
+>>> train = Train(Railway.line(5), 0, 2)
+>>> tried(train, ("tail", 3), ("tail", 4)), train.standing
+((2, 4), (0, 2))
+""",
+    "parsing": """
+>>> from treetrain.parsing import read_railway, read_train
+>>> read_train("railway 3\\ntrack 0 1\\ntrack 1 2\\ntrain 0 1\\ntail 2").standing
+(1, 2)
+>>> read_railway("railway 3\\ntrack 0 1\\ntrack 0 1")
+Traceback (most recent call last):
+treetrain.errors.InvalidText: (3, 3)
+""",
+    "desk": """
+>>> from treetrain.desk import Desk
+>>> desk = Desk()
+>>> desk.execute("railway 0 1 / 0 2 / 0 3"), desk.execute("run head 2 / tail 3"), desk.execute("class")
+('done', '0 3', 'free 6')
+>>> list(desk.execute_all("tail 1", "turn", "to 2 0", "jump"))
+['not possible', 'yes', '1', 'bad command']
+""",
 }
 
 

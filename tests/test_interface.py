@@ -38,6 +38,13 @@ FUNCTIONS = {
         "passing_length(railway)", "turning_length(railway)", "can_turn(railway, standing)", "length_rows(railway)",
     ),
     "changes": ("renamed(railway, order)", "extended(railway, station)", "shortened(railway)", "halved(railway)"),
+    "trials": ("tried(train, *moves)", "tried_all(train, moves)"),
+    "texts": (
+        "railway_text(railway)", "standing_text(railway, standing)", "moves_text(railway, moves)", "train_text(train)",
+    ),
+    "parsing": (
+        "read_railway(text)", "read_standing(railway, text)", "read_moves(railway, text)", "read_train(text)",
+    ),
 }
 CLASSES = {
     ("railways", "Railway"): (
@@ -54,6 +61,10 @@ CLASSES = {
     ("trains", "FuelTrain"): ("__init__(self, railway, head, tail, *, fuel=100)", "fuel", "burnt"),
     ("trains", "TouringFuelTrain"): (
         "__init__(self, railway, head, tail, *, fuel=100)", "visited", "fuel", "burnt",
+    ),
+    ("trials", "Trial"): ("__init__(self, train)", "__enter__(self)", "__exit__(self, kind, value, trace)"),
+    ("desk", "Desk"): (
+        "__init__(self)", "execute(self, command)", "execute_all(self, *commands)", "present_train(self)",
     ),
 }
 GENERATORS = (
@@ -97,6 +108,7 @@ class Interface(unittest.TestCase):
     def test_generators(self):
         for module, name in GENERATORS:
             self.assertTrue(inspect.isgeneratorfunction(getattr(module_of(module), name)), name)
+        self.assertTrue(inspect.isgeneratorfunction(module_of("desk").Desk.execute_all))
 
 
 if __name__ == "__main__":

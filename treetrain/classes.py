@@ -16,20 +16,20 @@ def pockets(railway, length):
 def count_classes(railway, length):
     """The numbers of the classes of clamped and of free standings of a length."""
     # Each class of clamped standings has a pocket of its own.
-    clamped = len(pockets(railway, length))
-    return clamped, free_classes(length, passing_length(railway), turning_length(railway))
+    return len(pockets(railway, length)), _count_free_classes(railway, length)
 
 
 def count_free(railway, length):
     """The number of free standings of a length."""
     check_length(length)
-    line = longest_path(railway)
-    if len(line) <= 2 * length:
+    count = _count_free_classes(railway, length)
+    if count == 0:
         return 0
-    # The line goes on behind the head of this standing for at least the length, so the standing is free.
+    # The longest path goes on behind the head of this standing for at least the length, so the standing is free.
+    line = longest_path(railway)
     size = class_size(railway, (line[length], line[0]))
     # If there are two classes, exchanging head and tail exchanges them, so they are equally great.
-    return size * free_classes(length, passing_length(railway), turning_length(railway))
+    return count * size
 
 
 def class_size(railway, standing):
@@ -51,3 +51,8 @@ def head_places(railway, standing):
 def tail_places(railway, standing):
     """The ascending tuple of the stations at which the tail stands in the class of a standing."""
     return tuple(sorted({tail for _, tail in standings_of_class(railway, standing)}))
+
+
+def _count_free_classes(railway, length):
+    """The number of the classes of free standings of a length."""
+    return free_classes(length, passing_length(railway), turning_length(railway))
